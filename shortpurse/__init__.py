@@ -1,0 +1,1 @@
+"""Shortpurse: what is left, divided among claims by rules."""
