@@ -3,6 +3,19 @@
 from fractions import Fraction
 from random import Random
 
+from shortpurse import rules
+
+PLAIN = {"shares": rules.Shares, "evenly": rules.Evenly, "losses": rules.Losses, "halves": rules.Halves}
+SOME_SHAPES = [
+    ("shares",),
+    ("evenly",),
+    ("losses",),
+    ("halves",),
+    ("other", ("halves",)),
+    ("ranks", ("evenly",)),
+    ("groups", ("losses",), ("evenly",)),
+    ("upto", (2, 7), ("losses",), ("evenly",)),
+]
 
 def told(number):
     number = Fraction(number)
@@ -127,3 +140,134 @@ def faults_of_path(path):
     if not faults and any(straight(*three) for three in zip(path, path[1:], path[2:])):
         faults.append("a corner on a straight line")
     return faults
+
+
+def level_of(amounts, purse):
+    """The level at which the lesser ones of amount and level come to the purse."""
+    rising = sorted(amounts)
+    for full in range(len(rising)):
+        level = (purse - sum(rising[:full])) / Fraction(len(rising) - full)
+        if level <= rising[full]:
+            return level
+    raise AssertionError("a purse beyond all claims")
+
+
+def loss_of(amounts, purse):
+    """The loss at which what the greater amounts keep comes to the purse."""
+    falling = sorted(amounts, reverse=True)
+    for kept in range(1, len(falling) + 1):
+        loss = (sum(falling[:kept]) - purse) / Fraction(kept)
+        if kept == len(falling) or loss >= falling[kept]:
+            return loss
+    raise AssertionError("a purse beyond all claims")
+
+
+def portions(claims, portion):
+    return [(amount * portion, rank, group) for amount, rank, group in claims]
+
+
+def divided(shape, claims, purse):
+    """What point 13 says of a rule, word for word, for a purse from 0 to all claims together."""
+    amounts = [Fraction(claim[0]) for claim in claims]
+    whole = sum(amounts)
+    if whole == 0:
+        return [Fraction(0)] * len(claims)
+    word = shape[0]
+    if word == "shares":
+        return [amount * purse / whole for amount in amounts]
+    if word == "evenly":
+        level = level_of(amounts, purse)
+        return [min(amount, level) for amount in amounts]
+    if word == "losses":
+        loss = loss_of(amounts, purse)
+        return [amount - loss if amount > loss else Fraction(0) for amount in amounts]
+    if word == "halves":
+        return divided(("upto", (1, 2), ("evenly",), ("losses",)), claims, purse)
+    if word == "other":
+        return [amount - part for amount, part in zip(amounts, divided(shape[1], claims, whole - purse))]
+    if word == "ranks":
+        return divided_by_ranks(shape[1], claims, purse)
+    if word == "groups":
+        return divided_by_groups(shape[1], shape[2], claims, purse)
+    portion = meant(shape[1])
+    if purse <= portion * whole:
+        return divided(shape[2], portions(claims, portion), purse)
+    rest = [(claim[0] - portion * claim[0],) + claim[1:] for claim in claims]
+    more = divided(shape[3], rest, purse - portion * whole)
+    return [portion * amount + part for amount, part in zip(amounts, more)]
+
+
+def divided_by_ranks(inner, claims, purse):
+    parts = {}
+    for rank in sorted({claim[1] for claim in claims}):
+        places = [place for place in range(len(claims)) if claims[place][1] == rank]
+        members = [claims[place] for place in places]
+        paid = min(purse, sum(Fraction(claim[0]) for claim in members))
+        purse -= paid
+        parts.update(zip(places, divided(inner, members, paid)))
+    return [parts[place] for place in range(len(claims))]
+
+
+def divided_by_groups(outer, inner, claims, purse):
+    parts = {}
+    numbers = sorted({claim[2] for claim in claims})
+    members = [[place for place in range(len(claims)) if claims[place][2] == number] for number in numbers]
+    sums = [
+        (sum(claims[place][0] for place in places), min(claims[place][1] for place in places), number)
+        for number, places in zip(numbers, members)
+    ]
+    for places, got in zip(members, divided(outer, sums, purse)):
+        parts.update(zip(places, divided(inner, [claims[place] for place in places], got)))
+    return [parts[place] for place in range(len(claims))]
+
+
+def rule_of(shape):
+    """The rule of a shape, made by the classes of the interface."""
+    word = shape[0]
+    if word in PLAIN:
+        return PLAIN[word]()
+    if word == "other":
+        return rules.Other(rule_of(shape[1]))
+    if word == "ranks":
+        return rules.Ranks(rule_of(shape[1]))
+    if word == "groups":
+        return rules.Groups(rule_of(shape[1]), rule_of(shape[2]))
+    return rules.Upto(shape[1], rule_of(shape[2]), rule_of(shape[3]))
+
+
+def text_of(shape):
+    """The text of a shape, by the words of point 15."""
+    if len(shape) == 1:
+        return shape[0]
+    if shape[0] == "upto":
+        return f"upto({shape[1][0]}/{shape[1][1]}, {text_of(shape[2])}, {text_of(shape[3])})"
+    return f"{shape[0]}({', '.join(text_of(inner) for inner in shape[1:])})"
+
+
+def random_portion(random, figures):
+    bottom = random.randint(2, 10 ** figures)
+    return told(Fraction(random.randint(1, bottom - 1), bottom))
+
+
+def random_shape(random, parts, grouped=True, figures=1):
+    """A shape of so many parts, itself among them."""
+    if parts == 1:
+        return (random.choice(list(PLAIN)),)
+    if parts == 2 or random.random() < 0.3:
+        return (random.choice(["other", "ranks"]), random_shape(random, parts - 1, grouped, figures))
+    cut = random.randint(1, parts - 2)
+    one = random_shape(random, cut, grouped, figures)
+    two = random_shape(random, parts - 1 - cut, grouped, figures)
+    if grouped and random.random() < 0.5:
+        return ("groups", one, two)
+    return ("upto", random_portion(random, figures), one, two)
+
+
+def random_claims(random, count, figures=2):
+    """Claims with amounts of 0, equal ones, and ranks and groups not in their order."""
+    some = [0, random.randint(1, 10 ** figures - 1)]
+    claims = []
+    for place in range(count):
+        amount = random.choice(some) if random.random() < 0.3 else random.randint(0, 10 ** figures - 1)
+        claims.append((amount, random.choice([7, 0, 3, 10 ** 59]), random.choice([5, 2, 10 ** 59, 0])))
+    return claims

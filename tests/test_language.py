@@ -43,6 +43,36 @@ def bound_names(tree):
             yield node.id, node.lineno
 
 
+def given_values(tree):
+    """Every value that a file's code gives to an object, with its line."""
+    for node in ast.walk(tree):
+        if isinstance(node, ast.Attribute) and isinstance(node.ctx, ast.Store):
+            yield node.attr, node.lineno
+
+
+def methods_of(tree):
+    return [inner.name for node in ast.walk(tree) if isinstance(node, ast.ClassDef)
+            for inner in node.body if isinstance(inner, ast.FunctionDef)]
+
+
+def calls_of(tree, names):
+    return [node for node in ast.walk(tree)
+            if isinstance(node, ast.Call) and isinstance(node.func, ast.Name) and node.func.id in names]
+
+
+def walked_places(tree):
+    """What stands where L23 lets a walk stand."""
+    places = []
+    for node in ast.walk(tree):
+        if isinstance(node, (ast.For, ast.comprehension)):
+            places.append(node.iter)
+    for call in calls_of(tree, "list tuple dict sorted sum any all enumerate".split()):
+        places += call.args[:1]
+    for call in calls_of(tree, ["zip"]):
+        places += call.args
+    return places
+
+
 class Language(unittest.TestCase):
     def each(self):
         for path in files():
@@ -112,6 +142,8 @@ class Language(unittest.TestCase):
             for node in ast.walk(tree):
                 if isinstance(node, ast.arg):
                     self.assertNotIn(node.arg, classes, node.lineno)
+                if isinstance(node, ast.Name) and isinstance(node.ctx, ast.Store):
+                    self.assertNotIn(node.id, classes, node.lineno)
                 if isinstance(node, ast.Name) and isinstance(node.ctx, ast.Load):
                     self.assertIn(node.id, known + OWN_NAMES, node.lineno)
             tops = [node.name for node in tree.body if isinstance(node, (ast.FunctionDef, ast.ClassDef))] + imported
@@ -124,6 +156,46 @@ class Language(unittest.TestCase):
             for node in ast.walk(tree):
                 if isinstance(node, ast.Call) and isinstance(node.func, ast.Attribute):
                     self.assertIn(node.func.attr, METHODS + DUNDERS + own, node.lineno)
+
+    def test_methods_and_values_are_told_apart(self):
+        methods = [name for path, text, tree in self.each() for name in methods_of(tree)]
+        for path, text, tree in self.each():
+            for name, line in given_values(tree):
+                self.assertNotIn(name, methods + METHODS, line)
+
+    def test_class_bodies_hold_methods_alone(self):
+        for path, text, tree in self.each():
+            for node in ast.walk(tree):
+                if isinstance(node, ast.ClassDef):
+                    self.assertIn(node, tree.body)
+                    self.assertLessEqual(len(node.bases), 1, node.lineno)
+                    for inner in node.body:
+                        self.assertIsInstance(inner, (ast.FunctionDef, ast.Pass), inner.lineno)
+                    names = [inner.name for inner in node.body if isinstance(inner, ast.FunctionDef)]
+                    self.assertEqual(len(names), len(set(names)), node.name)
+
+    def test_imports_draw_from_the_file_that_defines_and_never_in_a_ring(self):
+        trees = {"shortpurse." + path.stem: tree for path, text, tree in self.each()}
+        drawn = {name: [] for name in trees}
+        for name, tree in trees.items():
+            for node in tree.body:
+                if isinstance(node, ast.ImportFrom):
+                    drawn[name].append(node.module)
+                    tops = [top.name for top in trees[node.module].body if isinstance(top, (ast.FunctionDef, ast.ClassDef))]
+                    for alias in node.names:
+                        self.assertIn(alias.name, tops, name)
+        while drawn:
+            free = [name for name, others in drawn.items() if not any(other in drawn for other in others)]
+            self.assertNotEqual(free, [], "files that draw from one another")
+            drawn = {name: others for name, others in drawn.items() if name not in free}
+
+    def test_sets_and_walks_are_not_kept(self):
+        for path, text, tree in self.each():
+            within_calls = [arg for call in calls_of(tree, ["sorted", "len"]) for arg in call.args if not call.keywords]
+            for call in calls_of(tree, ["set", "frozenset"]):
+                self.assertIn(call, within_calls, call.lineno)
+            for call in calls_of(tree, ["zip", "enumerate", "reversed", "range"]):
+                self.assertIn(call, walked_places(tree), call.lineno)
 
     def test_the_top_of_a_file(self):
         for path, text, tree in self.each():
